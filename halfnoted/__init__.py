@@ -1,0 +1,1 @@
+"""Halfnoted: a small functional language in which annotations may be left out."""
