@@ -19,6 +19,12 @@ FUNCTIONS = {
         "ground_type": "name", "height": None, "safe": "source, target, *, side",
     },
     "check": {"elaborate": "expression", "casts": "core"},
+    "checks": {
+        "check_of": "source, target, *, number, side", "join": "first, second", "check_size": "check",
+        "check_height": "check", "labels": "check", "first_blame": "check, ground", "is_check": "value",
+    },
+    "plain": {"run_plain": "core, calls"},
+    "machine": {"run_machine": "core, calls", "run_measured": "core, calls"},
 }
 
 

@@ -30,6 +30,9 @@ NOT_NAMES = set(
 BARRED_WORDS = (
     "type typing typing_extensions enum Enum IntEnum StrEnum Flag IntFlag Generic Protocol ABC ABCMeta namedtuple "
     "NamedTuple TypedDict TYPE_CHECKING abstractmethod").split()
+NOT_ATTRIBUTES = set(
+    "items keys values pop update append clear extend insert remove reverse setdefault sort args encode decode hex "
+    "fromhex format format_map mro as_integer_ratio bit_count conjugate from_bytes is_integer to_bytes".split())
 NOT_ALLOWED = (ast.Global, ast.AsyncFunctionDef, ast.Await, ast.AsyncFor, ast.AsyncWith, ast.Div)
 
 
@@ -112,6 +115,21 @@ class LanguageTests(unittest.TestCase):
                     self.assertIn(node.id, BUILTINS, (path.name, node.lineno))
                 if isinstance(node, ast.Attribute):
                     self.assertNotIn(node.attr, NOWHERE, path.name)
+                if isinstance(node, ast.Attribute) and isinstance(node.ctx, ast.Store):
+                    self.assertNotIn(node.attr, NOT_ATTRIBUTES, path.name)
+
+    def test_no_variable_has_the_name_of_a_class_or_an_import(self):
+        for path, tree in trees():
+            outer = [node for node in tree.body if isinstance(node, (ast.ImportFrom, ast.ClassDef))]
+            names = {name for node in outer for name in bound_names(node)
+                     if isinstance(node, ast.ImportFrom) or name == node.name}
+            for node in ast.walk(tree):
+                if isinstance(node, ast.FunctionDef):
+                    inner = {one.id for one in ast.walk(node) if isinstance(one, ast.Name)
+                             and isinstance(one.ctx, ast.Store)} | {one.arg for one in ast.walk(node.args)
+                                                                    if isinstance(one, ast.arg)}
+                    inner |= {one.name for one in ast.walk(node) if isinstance(one, (ast.MatchAs, ast.MatchStar))}
+                    self.assertFalse(inner & names, (path.name, node.name))
 
     def test_methods_that_are_called(self):
         own = {node.name for _, tree in trees() for node in ast.walk(tree) if isinstance(node, ast.FunctionDef)}

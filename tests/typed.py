@@ -1,6 +1,10 @@
-"""Random expressions of a given type, with annotations that are exact."""
+"""Random expressions that have types: exact ones, and others that come from them."""
 
-from trees import BOOL, INT, UNIT, box, fun, pair, random_type
+import random
+
+from halfnoted.programs import annotations, numbered, with_annotations
+from halfnoted.types import consistent
+from trees import ANY, BOOL, INT, UNIT, box, fun, pair, random_type, weakened
 
 WORDS = (INT, BOOL, UNIT)
 
@@ -14,7 +18,7 @@ def typed(chance, most, wanted, scope):
         return simplest(chance, wanted, scope)
     if chance.random() < 0.1:
         return simplest(chance, wanted, scope)
-    make = chance.choice([called, chosen, named, printed, halved, got, written])
+    make = chance.choice([called, called, chosen, named, printed, halved, got, written, written, written])
     return make(chance, most - 1, wanted, scope)
 
 
@@ -75,4 +79,111 @@ def got(chance, most, wanted, scope):
 
 
 def written(chance, most, wanted, scope):
-    return ("as", typed(chance, most, wanted, scope), wanted)
+    """Four annotations around one another, of which doubted can change the inner three."""
+    found = typed(chance, most, wanted, scope)
+    for _ in range(4):
+        found = ("as", found, wanted)
+    return found
+
+
+def random_program(chance):
+    """A random exact expression, which may print, and enter bodies of functions."""
+    return typed(chance, chance.randrange(2, 6), some_type(chance), {})
+
+
+def loosened(chance, given):
+    """An expression that comes from this one by less exact annotations."""
+    share = chance.choice((0.1, 0.3, 0.6))
+    return with_annotations(given, [weakened(chance, one, share) for one in annotations(given)])
+
+
+def doubted(chance, exact):
+    """The expression with some values cast to any, to a type that they need not have, to any, and back."""
+    types = annotations(exact)
+    reached = 0
+    for one in numbered(exact):
+        if is_written(one) and chance.random() < 0.7:
+            types[reached + 1:reached + 4] = ANY, changed(chance, types[reached]), ANY
+        reached += {"fun": 1, "rec": 2, "as": 1}.get(one[0], 0)
+    return with_annotations(exact, types)
+
+
+def is_written(expression):
+    for _ in range(4):
+        if expression[0] != "as":
+            return False
+        expression = expression[1]
+    return True
+
+
+def changed(chance, given):
+    """A type that differs from this one, often in a part alone."""
+    if len(given) == 1 or chance.random() < 0.2:
+        return random_type(chance, 2)
+    at = chance.randrange(1, len(given))
+    return given[:at] + (changed(chance, given[at]),) + given[at + 1:]
+
+
+def chained(chance):
+    """A value that is cast along a chain of types, and then used, part by part."""
+    given = random_type(chance, 4)
+    found = some_value(chance, given)
+    for _ in range(chance.randrange(1, 7)):
+        given = next_type(chance, given)
+        found = ("as", found, given)
+    return used(chance, found, given, 5)
+
+
+def next_type(chance, given):
+    """A random type that is consistent with this one."""
+    if given == ANY:
+        return random_type(chance, 4)
+    if chance.random() < 0.2:
+        return ANY
+    return (given[0],) + tuple(next_type(chance, part) for part in given[1:])
+
+
+def some_value(chance, given):
+    """An expression of a type, which may have any in it."""
+    if given == ANY:
+        exact = random_type(chance, 2, WORDS)
+        return ("as", some_value(chance, exact), ANY)
+    if given == BOOL:
+        return ("flag", chance.random() < 0.5)
+    if given[0] == "fun":
+        body = ("as", ("name", "x"), given[2]) if consistent(given[1], given[2]) else some_value(chance, given[2])
+        return ("fun", "x", given[1], body)
+    if given[0] == "box":
+        return ("box", some_value(chance, given[1]))
+    if given[0] == "pair":
+        return ("pair", some_value(chance, given[1]), some_value(chance, given[2]))
+    return simplest(chance, given, {})
+
+
+def used(chance, found, given, most):
+    """An expression that uses a value of a type."""
+    if given == INT:
+        return ("print", found, ("num", 1))
+    if given in (BOOL, UNIT) or most == 0:
+        return found
+    if given == ANY:
+        given = next_type(chance, ANY)
+        return used(chance, ("as", found, given), given, most - 1)
+    if given[0] == "fun":
+        return used(chance, ("call", found, some_value(chance, given[1])), given[2], most - 1)
+    if given[0] == "pair":
+        at = chance.choice((1, 2))
+        return used(chance, (("fst", "snd")[at - 1], found), given[at], most - 1)
+    if chance.random() < 0.4:
+        return used(chance, ("get", found), given[1], most - 1)
+    changed_box = ("let", "u", ("put", ("name", "b"), some_value(chance, given[1])), ("get", ("name", "b")))
+    return ("let", "b", found, used(chance, changed_box, given[1], most - 1))
+
+
+def random_samples(many):
+    """Random expressions of all the kinds above, for the tests of all roads."""
+    for seed in range(many):
+        chance = random.Random(seed)
+        exact = random_program(chance)
+        wrong = doubted(chance, exact)
+        yield from (exact, loosened(chance, exact), wrong, loosened(chance, wrong), chained(chance), chained(chance))
