@@ -33,19 +33,19 @@ def check_between(source, target, label):
     if source[0] in SAME_GROUNDS:
         return ("same", source[0])
     if source[0] == "pair":
-        return ("pair", *check_halves(source, target, label))
+        return check_between_pairs(source, target, label)
     into = check_between(target[1], source[1], turned(label))
     return (source[0], into, check_between(source[-1], target[-1], label))
 
 
-def check_halves(source, target, label):
-    """The two checks of a cast from one pair type to another one."""
+def check_between_pairs(source, target, label):
+    """The check of a cast from one pair type to another one, with a label."""
     # Pairs of a pair and itself, many times over, have types that are far too large to go through. Halves that are
     # equal are done once, here and below; mostly they are one object, so that this is seen at once.
     first = check_between(source[1], target[1], label)
     if source[1] == source[2] and target[1] == target[2]:
-        return first, first
-    return first, check_between(source[2], target[2], label)
+        return ("pair", first, first)
+    return ("pair", first, check_between(source[2], target[2], label))
 
 
 def turned(label):
@@ -88,17 +88,17 @@ def join_plain(first, second):
     if first[0] == "same":
         return first
     if first[0] == "pair":
-        return ("pair", *join_halves(first, second))
+        return join_pairs(first, second)
     # What goes into a function or a box comes to the outer check, the second one, first.
     return (first[0], join(second[1], first[1]), join(first[2], second[2]))
 
 
-def join_halves(one, other):
-    """The two checks of a pair that is checked with two checks, one after the other."""
+def join_pairs(one, other):
+    """Joins two checks for pairs."""
     first = join(one[1], other[1])
     if one[1] == one[2] and other[1] == other[2]:
-        return first, first
-    return first, join(one[2], other[2])
+        return ("pair", first, first)
+    return ("pair", first, join(one[2], other[2]))
 
 
 def source_ground(check):

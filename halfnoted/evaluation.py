@@ -2,7 +2,7 @@
 
 from halfnoted.programs import parts
 from halfnoted.runs import Run
-from halfnoted.values import Function, Wrapped, operated
+from halfnoted.values import Function, called_inside, operated
 
 # How many of their parts these forms wait for; the others wait for all.
 AWAITED = {"fun": 0, "rec": 0, "cast": 0, "let": 1, "if": 1, "print": 1}
@@ -71,14 +71,10 @@ class Evaluation(Run):
                 self.give(self.casting.settled(frame.pending, self.value_of(frame)))
 
     def call(self, function, argument, pending):
-        """Evaluates the body of a function; wrappers do to the argument and to the result what they do."""
-        while isinstance(function, Wrapped):
-            into, out = self.casting.halves(function.by)
-            argument = self.casting.made(into, argument)
-            pending = self.casting.added(out, pending)
-            function = function.inside
+        """Evaluates the body of a function."""
+        inner, argument, pending = called_inside(self.casting, function, argument, pending)
         # What is pending counts even if the body cannot be entered any more.
-        self.begin(function.body, function.scope_with(argument), pending)
+        self.begin(inner.body, inner.scope_with(argument), pending)
         self.enter()
 
     def give(self, value):

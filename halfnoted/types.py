@@ -89,6 +89,9 @@ def safe_sides(one, other):
         return sides[2:] + sides[:2]
     if one[0] != other[0]:
         return NONE_SAFE
+    # Halves that are equal are gone through once, for the reason that meeting tells.
+    if one[0] == "pair" and one[1] == one[2] and other[1] == other[2]:
+        return safe_sides(one[1], other[1])
     inside = [safe_sides(first, second) for first, second in zip(one[1:], other[1:])]
     if one[0] == "fun":
         inside[0] = inside[0][::-1]

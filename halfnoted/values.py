@@ -132,6 +132,16 @@ def unwrapped(casting, value, at):
     return value, found[::-1]
 
 
+def called_inside(casting, function, argument, pending):
+    """The function inside all wrappers, and the argument and what is pending for the result there."""
+    while isinstance(function, Wrapped):
+        into, out = casting.halves(function.by)
+        argument = casting.made(into, argument)
+        pending = casting.added(out, pending)
+        function = function.inside
+    return function, argument, pending
+
+
 def made_all(casting, done, value):
     """The value to which all in a list has been done."""
     for by in done:

@@ -246,3 +246,53 @@ class Joined(Meaning):
             value.held = stored
         else:
             value.inside.held = self.done(value.by[1], stored)
+
+
+class Rooms(Joined):
+    """Running code, point RU2: the pending checks of the calls outside are a tuple, that of the current one apart."""
+
+    def run(self, core, scope=None, outside=(), check=None, is_tail=True):
+        scope = scope or {}
+        self.note(outside, check)
+
+        def part(one):
+            return self.run(one, scope, outside, check, False)
+
+        def instead(one, inner):
+            return self.run(one, inner, outside, check, is_tail)
+
+        if core[0] == "cast":
+            new = check_of(core[2], core[3], number=core[1], side=1)
+            if is_tail:
+                return self.run(core[4], scope, outside, self.before(new, check), True)
+            return self.done(new, part(core[4]))
+        if core[0] == "let":
+            return instead(core[3], {**scope, core[1]: part(core[2])})
+        if core[0] == "if":
+            return instead(core[2] if part(core[1]) else core[3], scope)
+        if core[0] == "print":
+            self.prints.append(part(core[1]))
+            return instead(core[2], scope)
+        if core[0] in ("num", "flag", "unit", "name", "fun", "rec"):
+            value = self.simple(core, scope)
+        else:
+            values = [part(one) for one in core[2 if core[0] == "op" else 1:]]
+            if core[0] == "call":
+                return self.call(*values, *((outside, check) if is_tail else (outside + (check,), None)))
+            value = self.combined(core, values)
+        return self.done(check, value) if is_tail else value
+
+    def call(self, function, argument, outside, check):
+        self.note(outside, check)
+        if isinstance(function, Around):
+            argument = self.done(function.by[1], argument)
+            check = self.before(function.by[2], check)
+            function = function.inside
+        self.note(outside, check)
+        self.enter()
+        return self.run(*self.bound(function, argument), outside, check, True)
+
+    def note(self, outside, check):
+        pending = [one for one in outside + (check,) if one is not None]
+        moment = (len(outside) + 1, sum(check_size(one) for one in pending))
+        self.measures = tuple(max(pair) for pair in zip(self.measures, moment))

@@ -138,6 +138,21 @@ LOOPS = [
      "let u = put b f in f 2", 3, (), number(5)),
 ]
 
+# Loops in tail places, with casts around the calls; {} is how many rounds there are.
+TAIL_LOOPS = [
+    "(rec h (n : int) : any => if n < 1 then (7 : any) else (h (n - 1) : int)) {}",
+    "(rec h (n : int) : int => if n < 1 then 7 else h (n - 1)) {}",
+    "(rec h (n : any) : any => if n < 1 then n else h (n - 1)) {}",
+    "(rec h (n : int) : any => if n < 1 then n else (let m = n - 1 in (print m ; ((h m : int) : any)) : int)) {}",
+    "(rec h (n : int) : int -> int => if n < 1 then (fun x : int => x) else (h (n - 1) : any -> int)) {}",
+    "(rec h (n : int) : (int, any) => if n < 1 then (n, 1) else (h (n - 1) : (any, int))) {}",
+    "(rec h (n : int) : box int => if n < 1 then box n else ((h (n - 1) : box any) : any)) {}",
+    "let f = ((rec h (n : int) : any => if n < 1 then n else h (n - 1)) : int -> int) in f {}",
+    "let b = box (fun n => n) in let f = fun n => if n < 1 then n else ((get b : any -> int) (n - 1) : any) in "
+    "let u = put b f in f {}",
+    "(rec h (n : int) : any -> any => fun f => if n < 1 then f else h (n - 1) (f : int -> int)) {} (fun x => x)",
+]
+
 # Points PL3 and PL4: functions, pairs and boxes that are wrapped, once and more often.
 WRAPPED = [
     ("let f = fun x => x + 1 in print f 4 ; f (true : any)", 2, (5,), blame(3, 1)),

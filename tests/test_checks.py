@@ -154,6 +154,10 @@ class Ch3Casts(unittest.TestCase):
             for check in (cast(deep, "any"), cast("any", deep), cast(deep, deep)):
                 self.assertTrue(is_check(check))
                 self.assertEqual(check_height(check), 60)
+            self.assertEqual(join(cast(deep, "any"), cast("any", deep, number=4)), cast(deep, deep))
+            back = join(cast("any", deep), cast(deep, "any", number=4))
+            self.assertEqual((is_check(back), check_height(back), labels(back)[0]), (True, 60, (3, 1)))
+            self.assertEqual(join(back, cast("any", deep, number=5)), cast("any", deep))
         self.assertEqual(cast(nested("pair", 2), "any"), give(("pair", give(("pair", give(I), give(B))), give(B))))
         for depth in (58, 59):
             self.assertEqual(labels(cast(nested("into", depth), "any")), [(3, 0)])

@@ -25,6 +25,10 @@ FUNCTIONS = {
     },
     "plain": {"run_plain": "core, calls"},
     "machine": {"run_machine": "core, calls", "run_measured": "core, calls"},
+    "code": {"compile_core": "core", "is_code": "rows"},
+    "runner": {"run_code": "rows, calls", "run_room": "rows, calls"},
+    "blame": {"may_blame": "core", "explains": "core, end"},
+    "whole": {"outcome": "text, calls, *, road='code'", "all_outcomes": "text, calls"},
 }
 
 

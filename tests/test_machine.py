@@ -11,7 +11,7 @@ from halfnoted.plain import run_plain
 from halfnoted.reader import read
 from halfnoted.types import height
 from meaning import Joined
-from samples import FORMS, LOOPS, NAMES, NUMBERS, ORDER, WRAPPED, number, other, through_any
+from samples import FORMS, LOOPS, NAMES, NUMBERS, ORDER, TAIL_LOOPS, WRAPPED, number, other, through_any
 from trees import ANY, BOOL, INT, UNIT, fun
 from typed import random_samples
 
@@ -206,22 +206,6 @@ class Ma4Measures(Cases):
             core, _ = elaborate(expression)
             for calls in (0, 1, 4, 40):
                 self.assertEqual(run_measured(core, calls), Joined(calls).measured(core), expression)
-
-
-# Loops in tail places, with casts around the calls; {} is how many rounds there are.
-TAIL_LOOPS = [
-    "(rec h (n : int) : any => if n < 1 then (7 : any) else (h (n - 1) : int)) {}",
-    "(rec h (n : int) : int => if n < 1 then 7 else h (n - 1)) {}",
-    "(rec h (n : any) : any => if n < 1 then n else h (n - 1)) {}",
-    "(rec h (n : int) : any => if n < 1 then n else (let m = n - 1 in (print m ; ((h m : int) : any)) : int)) {}",
-    "(rec h (n : int) : int -> int => if n < 1 then (fun x : int => x) else (h (n - 1) : any -> int)) {}",
-    "(rec h (n : int) : (int, any) => if n < 1 then (n, 1) else (h (n - 1) : (any, int))) {}",
-    "(rec h (n : int) : box int => if n < 1 then box n else ((h (n - 1) : box any) : any)) {}",
-    "let f = ((rec h (n : int) : any => if n < 1 then n else h (n - 1)) : int -> int) in f {}",
-    "let b = box (fun n => n) in let f = fun n => if n < 1 then n else ((get b : any -> int) (n - 1) : any) in "
-    "let u = put b f in f {}",
-    "(rec h (n : int) : any -> any => fun f => if n < 1 then f else h (n - 1) (f : int -> int)) {} (fun x => x)",
-]
 
 
 class Ma5Facts(Cases):
