@@ -1,5 +1,6 @@
 """The examples of the interface, and those of README.md."""
 
+import builtins
 import doctest
 import unittest
 from pathlib import Path
@@ -65,6 +66,8 @@ class ReadmeExamples(unittest.TestCase):
         text = README.read_text().replace("```", "")
         found = doctest.DocTestParser().get_doctest(text, {}, "README.md", None, 0)
         self.assertGreater(len(found.examples), 20)
+        # What shows the results also keeps the last one among the builtins.
+        self.addCleanup(vars(builtins).pop, "_", None)
         said = []
         result = doctest.DocTestRunner(verbose=False).run(found, out=said.append)
         self.assertEqual(result.failed, 0, "".join(said))
