@@ -8,12 +8,12 @@ from halfnoted.values import Wrapped, ground_of
 
 def run_machine(core, calls):
     """The pair (prints, end), as run_plain gives it."""
-    return MachineRun(core, calls).outcome()
+    return Evaluation(Checks(), core, calls).outcome()
 
 
 def run_measured(core, calls):
     """The triple (prints, end, measures)."""
-    run = MachineRun(core, calls)
+    run = MeasuredRun(core, calls)
     prints, end = run.outcome()
     return prints, end, (run.waiting.most, run.pending.most, run.cells.most)
 
@@ -52,8 +52,11 @@ class Checks:
         return check[1], check[2]
 
 
-class MachineRun(Evaluation):
-    """A run with joined checks, in which the expressions that wait and the checks that are pending are counted."""
+class MeasuredRun(Evaluation):
+    """A run with joined checks, in which the expressions that wait and the checks that are pending are counted.
+
+    It is a run of its own, because where checks are large, counting takes longer than all the rest.
+    """
 
     def __init__(self, core, calls):
         super().__init__(Checks(), core, calls)
